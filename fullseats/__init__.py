@@ -1,0 +1,1 @@
+"""Fullseats: processes that meet on channels with several seats."""

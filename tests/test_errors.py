@@ -1,0 +1,87 @@
+"""The error classes: their attributes and their base classes."""
+
+import unittest
+
+from fullseats import errors
+from fullseats.errors import SeatsError
+
+# The attribute of each class, or None.
+CLASSES = {
+    "BadTerm": "field",
+    "BadText": "line",
+    "NoName": "name",
+    "WrongCount": "name",
+    "Endless": "name",
+    "Clash": "name",
+    "NoMachine": "machine",
+    "NoSeating": "channel",
+    "NoMeeting": "place",
+    "Dependent": "place",
+    "NoRun": "place",
+    "NoJoin": None,
+    "BadMessage": "text",
+    "NoMessage": "place",
+    "NetworkFull": "limit",
+    "BadSetting": "value",
+    "AlreadyDriven": None,
+    "NotDone": "place",
+    "NothingToUndo": None,
+    "BadCommand": None,
+}
+ARGUMENTS = [0, 7, -1, 10 ** 40, "", "seat", "a {name} and a % sign", (), (0, 2, 3), ("x", (1, 2)), ((1, 2, 3),)]
+
+
+def made(name, argument=None):
+    """An error of the class of this name."""
+    if CLASSES[name] is None:
+        return getattr(errors, name)()
+    return getattr(errors, name)(argument)
+
+
+class Errors(unittest.TestCase):
+    def test_the_arguments_are_attributes(self):
+        for name, attribute in CLASSES.items():
+            for argument in ARGUMENTS:
+                if attribute is not None:
+                    with self.subTest(name=name, argument=argument):
+                        self.assertEqual(getattr(made(name, argument), attribute), argument)
+
+    def test_no_other_attributes_are_needed_to_create_the_rest(self):
+        for name in [name for name, attribute in CLASSES.items() if attribute is None]:
+            with self.subTest(name=name):
+                self.assertIsInstance(made(name), SeatsError)
+
+    def test_every_class_is_derived_directly_from_the_base_class(self):
+        self.assertEqual(SeatsError.__bases__, (ValueError,))
+        for name in CLASSES:
+            with self.subTest(name=name):
+                self.assertEqual(getattr(errors, name).__bases__, (SeatsError,))
+
+    def test_an_error_is_of_none_of_the_other_classes(self):
+        for name in CLASSES:
+            error = made(name, 3)
+            for other in CLASSES:
+                with self.subTest(name=name, other=other):
+                    self.assertEqual(isinstance(error, getattr(errors, other)), name == other)
+
+    def test_an_error_is_caught_by_its_class_and_by_the_base_classes(self):
+        for name in CLASSES:
+            for base in (getattr(errors, name), SeatsError, ValueError):
+                with self.subTest(name=name, base=base):
+                    with self.assertRaises(base):
+                        raise made(name, (1, 2))
+
+    def test_an_error_can_be_shown(self):
+        for name in CLASSES:
+            for argument in ARGUMENTS:
+                with self.subTest(name=name, argument=argument):
+                    self.assertIsInstance(str(made(name, argument)), str)
+                    self.assertIsInstance(repr(made(name, argument)), str)
+
+    def test_the_base_class_can_be_raised_alone(self):
+        with self.assertRaises(ValueError):
+            raise SeatsError()
+
+
+if __name__ == "__main__":
+    unittest.main()

@@ -1,0 +1,53 @@
+"""The interface: each class, function and method is defined where the document lists it."""
+
+import importlib
+import inspect
+import unittest
+
+# Each file with its classes and functions, and the methods of each class.
+INTERFACE = {
+    "errors": {
+        name: () for name in (
+            "SeatsError", "BadTerm", "BadText", "NoName", "WrongCount", "Endless", "Clash", "NoMachine", "NoSeating",
+            "NoMeeting", "Dependent", "NoRun", "NoJoin", "BadMessage", "NoMessage", "NetworkFull", "BadSetting",
+            "AlreadyDriven", "NotDone", "NothingToUndo", "BadCommand",
+        )
+    },
+    "terms": {
+        "Process": ("stop", "offer", "new", "when", "call", "__add__", "__or__", "__eq__", "__rmul__"),
+        "Net": ("__init__", "__len__", "__getitem__", "__iter__", "__or__", "__ior__", "__rmul__", "__eq__"),
+    },
+    "book": {
+        "Definition": ("__init__", "__eq__"),
+        "Book": (
+            "__init__", "__setitem__", "__getitem__", "__contains__", "__len__", "__iter__", "names", "__or__",
+            "__ior__", "__eq__",
+        ),
+    },
+}
+
+
+class Interface(unittest.TestCase):
+    def test_everything_is_defined_in_its_file(self):
+        for file, listed in INTERFACE.items():
+            module = importlib.import_module("fullseats." + file)
+            for name in listed:
+                with self.subTest(file=file, name=name):
+                    self.assertEqual(getattr(module, name).__module__, module.__name__)
+
+    def test_every_method_is_defined_in_its_class(self):
+        for file, listed in INTERFACE.items():
+            module = importlib.import_module("fullseats." + file)
+            for name, methods in listed.items():
+                for method in methods:
+                    with self.subTest(name=name, method=method):
+                        self.assertIn(method, vars(getattr(module, name)))
+
+    def test_no_other_errors(self):
+        module = importlib.import_module("fullseats.errors")
+        defined = [name for name, value in vars(module).items() if inspect.isclass(value)]
+        self.assertEqual(sorted(defined), sorted(INTERFACE["errors"]))
+
+
+if __name__ == "__main__":
+    unittest.main()
