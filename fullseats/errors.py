@@ -1,4 +1,8 @@
-"""The errors that the program raises."""
+"""The errors that the program raises.
+
+No message tells the argument of its error: Python refuses to write an integer of thousands of digits,
+and the arguments may be of any size.
+"""
 
 
 class SeatsError(ValueError):
@@ -9,7 +13,7 @@ class BadTerm(SeatsError):
     """A part of a term is not allowed."""
 
     def __init__(self, field):
-        super().__init__(f"a part of a term is not allowed: {field}")
+        super().__init__("a part of a term is not allowed")
         self.field = field
 
 
@@ -17,7 +21,7 @@ class BadText(SeatsError):
     """A line of a text has no form that can be read."""
 
     def __init__(self, line):
-        super().__init__(f"a line is bad: {line}")
+        super().__init__("a line is bad")
         self.line = line
 
 
@@ -25,7 +29,7 @@ class NoName(SeatsError):
     """A name has no meaning where it is used."""
 
     def __init__(self, name):
-        super().__init__(f"there is no such name: {name}")
+        super().__init__("there is no such name")
         self.name = name
 
 
@@ -33,7 +37,7 @@ class WrongCount(SeatsError):
     """A call passes another number of operands than its definition takes."""
 
     def __init__(self, name):
-        super().__init__(f"a call passes a wrong number of operands: {name}")
+        super().__init__("a call passes a wrong number of operands")
         self.name = name
 
 
@@ -41,7 +45,7 @@ class Endless(SeatsError):
     """A definition can lead back to itself without a meeting."""
 
     def __init__(self, name):
-        super().__init__(f"a definition leads back to itself: {name}")
+        super().__init__("a definition leads back to itself")
         self.name = name
 
 
@@ -49,7 +53,7 @@ class Clash(SeatsError):
     """Two books define a name differently."""
 
     def __init__(self, name):
-        super().__init__(f"a name is defined differently: {name}")
+        super().__init__("a name is defined differently")
         self.name = name
 
 
@@ -57,7 +61,7 @@ class NoMachine(SeatsError):
     """There is no such machine."""
 
     def __init__(self, machine):
-        super().__init__(f"there is no such machine: {machine}")
+        super().__init__("there is no such machine")
         self.machine = machine
 
 
@@ -65,7 +69,7 @@ class NoSeating(SeatsError):
     """A meeting on a channel is not possible with a seating."""
 
     def __init__(self, channel):
-        super().__init__(f"the channel has no such seating: {channel}")
+        super().__init__("the channel has no such seating")
         self.channel = channel
 
 
@@ -73,7 +77,7 @@ class NoMeeting(SeatsError):
     """There is no meeting at this index."""
 
     def __init__(self, place):
-        super().__init__(f"there is no such meeting: {place}")
+        super().__init__("there is no such meeting")
         self.place = place
 
 
@@ -81,7 +85,7 @@ class Dependent(SeatsError):
     """Two neighbours cannot be exchanged."""
 
     def __init__(self, place):
-        super().__init__(f"a meeting depends on the one before: {place}")
+        super().__init__("a meeting depends on the one before")
         self.place = place
 
 
@@ -89,7 +93,7 @@ class NoRun(SeatsError):
     """A list of meetings is not a run of the program."""
 
     def __init__(self, place):
-        super().__init__(f"the meetings are not a run: {place}")
+        super().__init__("the meetings are not a run")
         self.place = place
 
 
@@ -101,7 +105,7 @@ class BadMessage(SeatsError):
     """A text is not the written form of a message."""
 
     def __init__(self, text):
-        super().__init__(f"no message is written so: {text}")
+        super().__init__("no message is written so")
         self.text = text
 
 
@@ -109,7 +113,7 @@ class NoMessage(SeatsError):
     """There is no message at this index of the network."""
 
     def __init__(self, place):
-        super().__init__(f"there is no such message: {place}")
+        super().__init__("there is no such message")
         self.place = place
 
 
@@ -117,7 +121,7 @@ class NetworkFull(SeatsError):
     """The network has no room for a repeated message."""
 
     def __init__(self, limit):
-        super().__init__(f"the network is full: {limit}")
+        super().__init__("the network is full")
         self.limit = limit
 
 
@@ -125,7 +129,7 @@ class BadSetting(SeatsError):
     """A setting is not allowed."""
 
     def __init__(self, value):
-        super().__init__(f"the setting is not allowed: {value}")
+        super().__init__("the setting is not allowed")
         self.value = value
 
 
@@ -137,7 +141,7 @@ class NotDone(SeatsError):
     """One of several deeds raised an error, and none is performed."""
 
     def __init__(self, place):
-        super().__init__(f"a deed is not possible: {place}")
+        super().__init__("a deed is not possible")
         self.place = place
 
 

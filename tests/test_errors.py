@@ -4,6 +4,7 @@ import unittest
 
 from fullseats import errors
 from fullseats.errors import SeatsError
+from fullseats.terms import Process
 
 # The attribute of each class, or None.
 CLASSES = {
@@ -28,6 +29,8 @@ CLASSES = {
     "NothingToUndo": None,
     "BadCommand": None,
 }
+# More digits than Python itself is willing to write.
+LARGE = 10 ** 5000
 ARGUMENTS = [0, 7, -1, 10 ** 40, "", "seat", "a {name} and a % sign", (), (0, 2, 3), ("x", (1, 2)), ((1, 2, 3),)]
 
 
@@ -77,6 +80,31 @@ class Errors(unittest.TestCase):
                 with self.subTest(name=name, argument=argument):
                     self.assertIsInstance(str(made(name, argument)), str)
                     self.assertIsInstance(repr(made(name, argument)), str)
+
+    def test_an_argument_may_be_an_integer_of_any_size(self):
+        # A check that fails would have to write the number: so only True and False are compared.
+        for name, attribute in CLASSES.items():
+            for argument in (LARGE, -LARGE, (0, LARGE, 2), ((LARGE,), -LARGE)):
+                if attribute is not None:
+                    with self.subTest(name=name):
+                        self.assertTrue(getattr(made(name, argument), attribute) == argument)
+                        self.assertIsInstance(str(made(name, argument)), str)
+
+    def test_an_integer_of_any_size_is_refused_by_the_error_of_the_document(self):
+        stop = Process.stop()
+        for action in (
+            lambda number: Process.new("a", number, stop),
+            lambda number: Process.offer("a", number, 1, 5, [], stop),
+            lambda number: Process.offer("a", 0, number, 5, [], stop),
+            lambda number: Process.offer("a", 0, 1, number, [], stop),
+            lambda number: Process.when(number, 0, stop, stop),
+            lambda number: Process.call("f", [number]),
+        ):
+            for number in (LARGE, -LARGE):
+                with self.assertRaises(errors.BadTerm):
+                    action(number)
+        with self.assertRaises(errors.BadTerm):
+            LARGE * stop
 
     def test_the_base_class_can_be_raised_alone(self):
         with self.assertRaises(ValueError):
