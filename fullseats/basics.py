@@ -7,6 +7,7 @@ RESERVED = (
     "stop", "new", "if", "then", "else", "put", "get", "channel", "at", "define", "start",
 )
 
+MOST_DIGITS = 30
 # The least integer with thirty-one digits.
 TOO_LONG = 10 ** 30
 
@@ -46,3 +47,13 @@ def is_operand(part):
 def is_seats(count):
     """Whether a channel can have this number of seats."""
     return is_int(count) and 1 <= count <= MOST_SEATS
+
+
+def int_read(token):
+    """The integer whose written form is the token, or None."""
+    digits = token.removeprefix("-")
+    if not 1 <= len(digits) <= MOST_DIGITS or not all([sign in DIGITS for sign in digits]):
+        return None
+    if digits[0] == "0" and token != "0":
+        return None
+    return int(token)

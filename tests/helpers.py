@@ -1,9 +1,15 @@
-"""What the tests of terms and books share."""
+"""What the tests share."""
 
 import unittest
 
-from fullseats.errors import BadTerm
+from fullseats.book import Book, Definition
+from fullseats.errors import BadTerm, BadText, Endless, NoMachine, NoName, WrongCount
+from fullseats.program import Program
 from fullseats.terms import Net, Process
+
+ATTRIBUTES = {
+    BadTerm: "field", BadText: "line", Endless: "name", NoMachine: "machine", NoName: "name", WrongCount: "name",
+}
 
 GOOD_NAMES = ["a", "z", "m5", "a0", "z9", "abcdefgh", "a2345678", "stops", "sto", "news", "iff", "ats", "starts"]
 RESERVED = ["stop", "new", "if", "then", "else", "put", "get", "channel", "at", "define", "start"]
@@ -60,11 +66,36 @@ def net(count, first=0):
     return Net(numbered(count, first))
 
 
+def call(name, *operands):
+    """A call."""
+    return Process.call(name, operands)
+
+
+def book_with(definitions):
+    """A book of a dict: under each name the parameters, with a space between them, and the body."""
+    book = Book()
+    for name, (params, body) in definitions.items():
+        book[name] = Definition(params.split(), body)
+    return book
+
+
+def program(channels=(), definitions=None, starts=(STOP,)):
+    """A program, most parts of which a test does not care about."""
+    return Program(list(channels), book_with(definitions or {}), Net(list(starts)))
+
+
 class TermCase(unittest.TestCase):
     """A test case that can ask for a refusal."""
 
     def refuses(self, field, action, *arguments):
         """The action raises BadTerm with this very field."""
-        with self.assertRaises(BadTerm) as caught:
+        self.fails(BadTerm, field, action, *arguments)
+
+    def fails(self, kind, argument, action, *arguments):
+        """The action raises an error of this very class with this very argument."""
+        with self.assertRaises(kind) as caught:
             action(*arguments)
-        self.assertEqual(caught.exception.field, field)
+        told = getattr(caught.exception, ATTRIBUTES[kind])
+        # A number that is too long to be written can only be compared.
+        self.assertTrue(told == argument, f"another argument than expected in a {kind.__name__}")
+        self.assertTrue(type(caught.exception) is kind)

@@ -24,6 +24,9 @@ INTERFACE = {
             "__ior__", "__eq__",
         ),
     },
+    "program": {"Program": ("__init__", "declared", "definitions", "processes", "channel_of", "__eq__")},
+    "texts": {name: () for name in ("process_text", "process_read", "program_text", "program_read")},
+    "seating": {name: () for name in ("first_seating", "least_bar", "seatings")},
 }
 
 
