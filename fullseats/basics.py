@@ -57,3 +57,20 @@ def int_read(token):
     if digits[0] == "0" and token != "0":
         return None
     return int(token)
+
+
+def int_text(value):
+    """The written form of an integer of any size."""
+    if value < 0:
+        return "-" + int_text(-value)
+    # Python itself refuses to write thousands of digits at once.
+    groups = []
+    while value >= TOO_LONG:
+        value, group = divmod(value, TOO_LONG)
+        groups.append(str(group).zfill(MOST_DIGITS))
+    return "".join([str(value)] + groups[::-1])
+
+
+def is_index(at, count):
+    """Whether there is something at this index, where so many things are."""
+    return is_int(at) and 0 <= at < count

@@ -1,46 +1,28 @@
-"""Reading the tokens of one line."""
+"""Reading processes from the tokens of a line."""
 
 from fullseats.basics import int_read
 from fullseats.errors import BadText
 from fullseats.terms import MOST_DEPTH, Process
+from fullseats.tokens import Tokens
 
 
-class Reader:
-    """The tokens of a line, which are taken one after another.
+class Reader(Tokens):
+    """The tokens of a line of a program, or of a process.
 
     A line that has no form raises BadText; a term that is not allowed raises BadTerm.
     """
 
     def __init__(self, line, number):
         """Keeps the tokens of the line, and its number for the errors."""
-        self.tokens = line.split(" ")
+        Tokens.__init__(self, line)
         self.number = number
-        self.taken = 0
 
-    def require(self, allowed):
-        """Raises BadText unless it is allowed."""
-        if not allowed:
-            raise BadText(self.number)
-
-    def finish(self):
-        """Checks that all tokens have been taken."""
-        self.require(self.taken == len(self.tokens))
-
-    def take_token(self):
-        """The next token."""
-        self.require(self.taken < len(self.tokens))
-        self.taken += 1
-        return self.tokens[self.taken - 1]
+    def refuse(self):
+        raise BadText(self.number)
 
     def expect(self, word):
         """Takes the next token, which must be this word or sign."""
         self.require(self.take_token() == word)
-
-    def take_int(self):
-        """The next token as an integer."""
-        value = int_read(self.take_token())
-        self.require(value is not None)
-        return value
 
     def take_operand(self):
         """The next token as an operand."""

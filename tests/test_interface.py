@@ -27,6 +27,21 @@ INTERFACE = {
     "program": {"Program": ("__init__", "declared", "definitions", "processes", "channel_of", "__eq__")},
     "texts": {name: () for name in ("process_text", "process_read", "program_text", "program_read")},
     "seating": {name: () for name in ("first_seating", "least_bar", "seatings")},
+    "runs": {
+        "Run": (
+            "__init__", "empty", "__len__", "__getitem__", "__iter__", "__add__", "__floordiv__", "__sub__", "__eq__",
+            "depends", "exchanged",
+        ),
+        "joined": (),
+    },
+    "plain": {
+        "Plain": (
+            "__init__", "turn_of", "menu_of", "created_by", "all_channels", "first_on", "bar_on", "meet", "stuck",
+            "meetings",
+        ),
+    },
+    "listing": {name: () for name in ("fault", "runs")},
+    "messages": {"Message": ("__init__", "written", "read", "__eq__")},
 }
 
 
