@@ -86,15 +86,15 @@ def comparable(meeting):
 
 def joined(logs):
     """The join of logs that fit together."""
-    taken = [0] * len(logs)
     check_entries(logs)
     check_turns(logs)
+    taken = [0] * len(logs)
     meetings = []
     while ready := ready_meetings(logs, taken):
         meetings.append(min(ready))
         for machine in machines_in(meetings[-1]):
             taken[machine] += 1
-    # What is left depends on itself.
+    # What is left depends on itself, or wants the turn behind a log that another meeting has taken.
     if any([taken[machine] < len(logs[machine]) for machine in range(len(logs))]):
         raise NoJoin()
     return Run(meetings)
@@ -103,31 +103,25 @@ def joined(logs):
 def check_entries(logs):
     """Checks that every entry is a meeting of different machines, and of its own machine in the right turn."""
     for owner, log in enumerate(logs):
-        for at, meeting in enumerate(log):
-            channel, parts = meeting
-            machines = machines_in(meeting)
+        for at, (channel, parts) in enumerate(log):
+            machines = [machine for machine, turn, place, value in parts]
             own_turns = [turn for machine, turn, place, value in parts if machine == owner]
             if own_turns != [at] or len(set(machines)) != len(machines):
                 raise NoJoin()
 
 
 def check_turns(logs):
-    """Checks that every part fits the log of its machine, and that no machine has two meetings in one turn."""
-    by_turn = {}
-    for meeting in [meeting for log in logs for meeting in log]:
-        channel, parts = meeting
-        for machine, turn, place, value in parts:
-            if not part_fits(meeting, machine, turn, logs):
-                raise NoJoin()
-            if by_turn.setdefault((machine, turn), meeting) != meeting:
-                raise NoJoin()
+    """Checks that every part fits the log of its machine."""
+    for log in logs:
+        for meeting in log:
+            channel, parts = meeting
+            for machine, turn, place, value in parts:
+                if not is_index(machine, len(logs)) or not log_fits(logs[machine], turn, meeting):
+                    raise NoJoin()
 
 
-def part_fits(meeting, machine, turn, logs):
-    """Whether the log of the machine has this meeting in this turn, or ends just before it."""
-    if not is_index(machine, len(logs)):
-        return False
-    log = logs[machine]
+def log_fits(log, turn, meeting):
+    """Whether a log has the meeting in this turn, or ends just before it."""
     return turn == len(log) or is_index(turn, len(log)) and log[turn] == meeting
 
 

@@ -69,7 +69,8 @@ def state_behind(program, state, meeting):
     places = [place for machine, turn, place, value in parts if machine == state.machine]
     received = [value for machine, turn, place, value in parts if machine != state.machine]
     on, seat, seats, operand, names, rest = state.offers[places[0]]
-    bindings = {**state.bindings, **dict(zip(names, received))}
+    bound = dict(zip(names, received))
+    bindings = {**state.bindings, **bound}
     return evaluated(program, state.machine, state.turn + 1, state.created, bindings, rest)
 
 

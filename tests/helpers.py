@@ -13,6 +13,7 @@ from fullseats.plain import Plain
 from fullseats.program import Program
 from fullseats.terms import Net, Process
 from fullseats.texts import program_read
+from fullseats.world import World
 
 ATTRIBUTES = {
     BadMessage: "text", BadSetting: "value", BadTerm: "field", BadText: "line", Dependent: "place", Endless: "name",
@@ -103,7 +104,9 @@ def read(*lines):
 # Programs of many kinds, which between them use all that a program can do.
 SAMPLES = {
     "nothing to do": read("start stop"),
-    "an offer that nobody answers": read("channel a 2 at 0", "start [ a 0 / 2 put 5 get ( x ) then stop ]", "start stop"),
+    "an offer that nobody answers": read(
+        "channel a 2 at 0", "start [ a 0 / 2 put 5 get ( x ) then stop ]", "start stop",
+    ),
     "alone on a channel with one seat": read(
         "channel a 1 at 0", "define f ( x y ) [ a 0 / 1 put x get ( ) then f ( y x ) ]", "start f ( 1 2 )",
     ),
@@ -128,7 +131,8 @@ SAMPLES = {
         " + d 0 / 2 put a get ( y ) then stop ]",
         "define g ( x ) [ a 1 / 2 put x get ( y ) then g ( y ) + b 1 / 3 put x get ( y z ) then g ( y )"
         " + b 2 / 3 put x get ( y z ) then f ( z ) + x 1 / 2 put 5 get ( y ) then stop ]",
-        "start f ( 1 )", "start g ( 2 )", "start f ( 3 )", "start g ( d )", "start [ c 0 / 1 put 0 get ( ) then g ( 5 ) ]",
+        "start f ( 1 )", "start g ( 2 )", "start f ( 3 )", "start g ( d )",
+        "start [ c 0 / 1 put 0 get ( ) then g ( 5 ) ]",
     ),
     "the seats go down where the machines go up": read(
         "channel a 4 at 3", "define f ( s ) [ a 3 / 4 put 3 get ( x y z ) then stop ]", "start f ( 0 )",
@@ -235,6 +239,45 @@ def picked_run(numbers, program, most):
     while len(plain.meetings()) < most and (steps := steps_in(plain, program.machines)):
         plain.meet(*numbers.choice(steps))
     return list(plain.meetings())
+
+
+def picked_seating(numbers, world, channel):
+    """A seating of a channel with rows of the book of its home, or None."""
+    book = world.view(channel[0])["book"]
+    rows = [(machine, place, seat) for machine, turn, rows in book for place, on, seat, value in rows if on == channel]
+    pairs = [[(machine, place) for machine, place, at in rows if at == seat] for seat in range(channel[2])]
+    return tuple(numbers.choice(among) for among in pairs) if all(pairs) else None
+
+
+def picked_deed(numbers, world, machines):
+    """Any deed, which need not be possible; messages are lost and repeated often, and delivered in any order."""
+    count, way = len(world.messages()), numbers.random()
+    if count > 80:
+        # So many messages are enough to be delayed.
+        way = way * 0.65
+    if count > 0 and way < 0.6:
+        return ("deliver", numbers.choice([0, numbers.randrange(count)]))
+    if count > 0 and way < 0.7:
+        return (numbers.choice(["drop", "repeat", "repeat"]), numbers.randrange(count))
+    if way < 0.8:
+        return numbers.choice([("tick", numbers.randrange(machines)), ("tick_all",)])
+    channel = numbers.choice(world.all_channels() or [(0, 0, 1)])
+    chosen = picked_seating(numbers, world, channel) or world.first_on(channel)
+    return ("attempt", channel, chosen or ((0, 0), (1, 0))) if channel[0] < machines else ("tick_all",)
+
+
+def wild_worlds(programs, turns, seed, every):
+    """Worlds in which deeds of any kind have been performed; each is yielded every so many deeds."""
+    numbers = random.Random(seed)
+    for program in programs:
+        world = World(program)
+        for turn in range(turns):
+            try:
+                world.perform(picked_deed(numbers, world, program.machines))
+            except (NoSeating, NetworkFull):
+                pass
+            if turn % every == every - 1:
+                yield program, world, numbers
 
 
 class TermCase(unittest.TestCase):

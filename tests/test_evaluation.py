@@ -37,7 +37,8 @@ class Operands(unittest.TestCase):
 
     def test_the_numbers_of_declared_channels_count_for_each_machine(self):
         declared = [("p", 1, 1), ("q", 2, 0), ("r", 3, 1), ("s", 4, 2), ("t", 1, 1), ("u", 2, 0)]
-        program = read(*[f"channel {name} {seats} at {machine}" for name, seats, machine in declared], *["start stop"] * 3)
+        lines = [f"channel {name} {seats} at {machine}" for name, seats, machine in declared]
+        program = read(*lines, *["start stop"] * 3)
         plain = Plain(program)
         self.assertEqual([plain.created_by(machine) for machine in range(3)], [2, 3, 1])
         expected = [(0, 0, 2), (0, 1, 2), (1, 0, 1), (1, 1, 3), (1, 2, 1), (2, 0, 4)]
@@ -128,7 +129,8 @@ class Calls(unittest.TestCase):
 
     def test_a_chain_of_all_definitions(self):
         definitions = [f"define f{k} ( x ) new y 1 f{k + 1} ( x )" for k in range(11)]
-        plain = Plain(read(*CHANNELS, *definitions, "define f11 ( x ) new y 1 " + show("x"), "start f0 ( c )", "start stop"))
+        definitions.append("define f11 ( x ) new y 1 " + show("x"))
+        plain = Plain(read(*CHANNELS, *definitions, "start f0 ( c )", "start stop"))
         self.assertEqual(plain.menu_of(0), [(A, 0, 1, C)])
         self.assertEqual(plain.created_by(0), 14)
 
@@ -137,13 +139,15 @@ class Calls(unittest.TestCase):
         self.assertEqual(values("f ( d 6 )", "define f ( b c ) " + show("b", "c")), [D, 6])
 
     def test_the_operands_are_evaluated_where_the_call_stands(self):
-        self.assertEqual(values("f ( 1 2 )", "define f ( x y ) g ( y x )", "define g ( x y ) " + show("x", "y")), [2, 1])
+        definitions = ["define f ( x y ) g ( y x )", "define g ( x y ) " + show("x", "y")]
+        self.assertEqual(values("f ( 1 2 )", *definitions), [2, 1])
         self.assertEqual(values("new b 3 f ( b )", "define f ( x ) " + show("x", "b")), [(0, 2, 3), B])
 
     def test_in_the_body_what_the_caller_has_hidden_is_bound_again(self):
         self.assertEqual(values("new b 3 f ( )", "define f ( ) " + show("b")), [B])
         self.assertEqual(values("f ( 5 )", "define f ( c ) g ( c )", "define g ( x ) " + show("x", "c")), [5, C])
-        self.assertEqual(values("f ( 5 )", "define f ( x ) new c 4 g ( c )", "define g ( c ) " + show("c")), [(0, 2, 4)])
+        definitions = ["define f ( x ) new c 4 g ( c )", "define g ( c ) " + show("c")]
+        self.assertEqual(values("f ( 5 )", *definitions), [(0, 2, 4)])
 
     def test_definitions_named_like_channels_and_parameters(self):
         self.assertEqual(values("b ( b )", "define b ( c ) " + show("c", "b")), [B, B])

@@ -193,8 +193,10 @@ class Conditions(JoinCase):
     def test_the_log_of_another_machine_has_another_meeting_in_this_turn(self):
         self.refused([meeting((0, 0), (1, 0))], [meeting((1, 0))])
         one = (A, ((0, 0, 0, 5), (1, 0, 0, 6)))
-        for other in ((A, ((0, 0, 0, 5), (1, 0, 0, 7))), (A, ((0, 0, 1, 5), (1, 0, 0, 6))),
-                      ((0, 1, 2), ((0, 0, 0, 5), (1, 0, 0, 6))), (A, ((1, 0, 0, 6), (0, 0, 0, 5)))):
+        for other in (
+            (A, ((0, 0, 0, 5), (1, 0, 0, 7))), (A, ((0, 0, 1, 5), (1, 0, 0, 6))),
+            ((0, 1, 2), ((0, 0, 0, 5), (1, 0, 0, 6))), (A, ((1, 0, 0, 6), (0, 0, 0, 5))),
+        ):
             self.refused([one], [other])
 
     def test_different_meetings_with_the_same_machine_and_turn(self):

@@ -26,8 +26,10 @@ def runs_by_trying(program, most, begun=()):
 def spoilt(meeting):
     """Meetings that differ from a meeting in one thing."""
     (home, number, seats), parts = meeting
-    for channel in ((home + 1, number, seats), (home, number + 1, seats), (home, number, seats + 1),
-                    (home, number, seats - 1), (-1, number, seats), (home, LARGE, seats), (home - 6, number, seats)):
+    for channel in (
+        (home + 1, number, seats), (home, number + 1, seats), (home, number, seats + 1), (home, number, seats - 1),
+        (-1, number, seats), (home, LARGE, seats), (home - 6, number, seats),
+    ):
         yield (channel, parts)
     others = [(), parts[::-1]]
     for at, part in enumerate(parts):
@@ -129,12 +131,15 @@ class Runs(unittest.TestCase):
 
     def test_the_order(self):
         program = read(
-            "channel a 2 at 0", "define f ( ) [ a 0 / 2 put 1 get ( x ) then f ( ) + a 1 / 2 put 2 get ( x ) then f ( ) ]",
+            "channel a 2 at 0",
+            "define f ( ) [ a 0 / 2 put 1 get ( x ) then f ( ) + a 1 / 2 put 2 get ( x ) then f ( ) ]",
             "start f ( )", "start f ( )", "start f ( )",
         )
         for made in runs(program, 2):
             self.assertIsNone(fault(program, made))
-        steps = [[(channel, tuple(part[::2] for part in parts)) for channel, parts in made] for made in runs(program, 3)]
+        steps = [
+            [(channel, tuple(part[::2] for part in parts)) for channel, parts in made] for made in runs(program, 3)
+        ]
         self.assertEqual(steps, sorted(steps))
         self.assertEqual(len(steps), 1 + 6 + 36 + 216)
 

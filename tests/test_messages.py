@@ -37,7 +37,8 @@ NO_NUMBERS = ["", "-0", "007", "00", "+1", "-1", "1.0", "1_0", "a", "0x1", "1" *
               "1:", ":", "1\n", "\t1", "1\t2", "1e5", "--1", "-", "1:2"]
 # The same for a value.
 NO_VALUES = [text for text in NO_NUMBERS if text != "-1"] + [
-    "0:0", "0:0:0:1", "0:0:0", "0:0:5", "0:0:-1", "6:0:1", "-1:0:1", "0:-1:1", "0:0:01", "00:0:1", "0:+1:1", "::", "0::1",
+    "0:0", "0:0:0:1", "0:0:0", "0:0:5", "0:0:-1", "6:0:1", "-1:0:1", "0:-1:1", "0:0:01", "00:0:1", "0:+1:1", "::",
+    "0::1",
     ":0:0:1", "0:0:1:", "0:0: 1", "0:0:1\n", "(0, 0, 1)", "0;0;1", "0:0:1.0", "0:" + "1" * 31 + ":1", "6:0:2", "0:0:10",
 ]
 
@@ -97,7 +98,9 @@ class Forms(MessageCase):
     def test_integers_of_any_size_are_written(self):
         digits = "9" + "0" * 4998 + "7"
         large = 9 * 10 ** 4999 + 7
-        for number, text in ((large, digits), (-large, "-" + digits), (10 ** 30, "1" + "0" * 30), (10 ** 60 + 5, "1" + "0" * 59 + "5")):
+        for number, text in (
+            (large, digits), (-large, "-" + digits), (10 ** 30, "1" + "0" * 30), (10 ** 60 + 5, "1" + "0" * 59 + "5"),
+        ):
             self.assertTrue(Message("yes", 1, 0, (number,)).written() == f"yes 1 0 {text}")
             self.assertTrue(Message("yes", number, 0, (1,)).written() == f"yes {text} 0 1")
             made = Message("offers", 1, 0, (3, ((0, (1, number, 2), 0, number),)))
@@ -110,8 +113,9 @@ class Equality(unittest.TestCase):
         self.assertTrue(Message(*base) == Message(*base))
         self.assertFalse(Message(*base) != Message(*base))
         for other in (
-            ("done",) + base[1:], base[:1] + (2,) + base[2:], base[:2] + (1,) + base[3:], base[:3] + ((4, base[3][1]),),
-            base[:3] + ((3, ()),), base[:3] + ((3, ((0, A, 0, 6),)),), base[:3] + ((3, ((0, B, 0, 5),)),),
+            ("done",) + base[1:], base[:1] + (2,) + base[2:], base[:2] + (1,) + base[3:],
+            base[:3] + ((4, base[3][1]),), base[:3] + ((3, ()),), base[:3] + ((3, ((0, A, 0, 6),)),),
+            base[:3] + ((3, ((0, B, 0, 5),)),),
         ):
             self.assertFalse(Message(*base) == Message(*other))
             self.assertTrue(Message(*base) != Message(*other))
@@ -210,10 +214,12 @@ class BadTexts(MessageCase):
 
     def test_machines(self):
         for machine in ("6", "7", "10", "-1", LONG):
-            for text in ("offers {} 0 3", "offers 0 {} 3", "heard {} 0 3", "heard 0 {} 3", "ask {} 0 1 0", "ask 0 {} 1 0",
-                         "yes {} 0 1", "yes 0 {} 1", "no {} 0 1", "no 0 {} 1", "free {} 0 1", "free 0 {} 1",
-                         "done {} 0 1 0:0:1 0 0 0 5", "done 0 0 1 0:0:1 {} 0 0 5", "done 0 0 1 0:0:2 0 0 0 5 {} 0 0 5",
-                         "done 0 {0} 1 {0}:0:1 0 0 0 5", "offers {0} 0 3 0 {0}:0:1 0 5", "offers 0 0 3 0 0:0:1 0 {}:0:1"):
+            for text in (
+                "offers {} 0 3", "offers 0 {} 3", "heard {} 0 3", "heard 0 {} 3", "ask {} 0 1 0", "ask 0 {} 1 0",
+                "yes {} 0 1", "yes 0 {} 1", "no {} 0 1", "no 0 {} 1", "free {} 0 1", "free 0 {} 1",
+                "done {} 0 1 0:0:1 0 0 0 5", "done 0 0 1 0:0:1 {} 0 0 5", "done 0 0 1 0:0:2 0 0 0 5 {} 0 0 5",
+                "done 0 {0} 1 {0}:0:1 0 0 0 5", "offers {0} 0 3 0 {0}:0:1 0 5", "offers 0 0 3 0 0:0:1 0 {}:0:1",
+            ):
                 self.bad(text.format(machine))
         for machine in range(6):
             for text in ("offers {} 0 3", "offers 0 {} 3", "done {0} {0} 1 {0}:0:1 {0} 0 0 {0}:0:1"):
@@ -236,8 +242,10 @@ class BadTexts(MessageCase):
     def test_channels(self):
         for seats in (1, 2, 3, 4):
             self.assertEqual(Message.read(f"offers 1 0 3 0 1:0:{seats} 0 5").body[1][0][1], (1, 0, seats))
-        for channel in ("1:0", "1:0:0", "1:0:5", "1:0:2:0", "1", "1:-1:2", "1:0:-2", "01:0:2", "1:00:2", "1:0:02", "1::2",
-                        ":0:2", "1:0:", "1:0:2:", "1:0:+2", "1:a:2", "a", "1/0/2", "1.0.2", "1:0:" + "1" * 31, "6:0:2"):
+        for channel in (
+            "1:0", "1:0:0", "1:0:5", "1:0:2:0", "1", "1:-1:2", "1:0:-2", "01:0:2", "1:00:2", "1:0:02", "1::2", ":0:2",
+            "1:0:", "1:0:2:", "1:0:+2", "1:a:2", "a", "1/0/2", "1.0.2", "1:0:" + "1" * 31, "6:0:2",
+        ):
             self.bad(f"offers 1 0 3 0 {channel} 0 5")
             self.bad(f"done 0 1 1 {channel} 0 0 0 5")
             self.bad(f"done 0 1 1 {channel} 0 0 0 5 1 0 0 5")

@@ -15,7 +15,8 @@ LINES = [
     "channel a 2 at 0", "channel b 3 at 1", "channel c 1 at 0",
     "start [ a 0 / 2 put 5 get ( x ) then [ a 1 / 2 put x get ( y ) then stop ] + b 2 / 3 put 6 get ( x y ) then stop"
     " + c 0 / 1 put c get ( ) then stop + a 1 / 2 put 7 get ( x ) then stop ]",
-    "start [ a 1 / 2 put b get ( x ) then stop + b 0 / 3 put 8 get ( x y ) then [ x 0 / 2 put y get ( z ) then stop ] ]",
+    "start [ a 1 / 2 put b get ( x ) then stop + b 0 / 3 put 8 get ( x y ) then [ x 0 / 2 put y get ( z ) then"
+    " stop ] ]",
     "start [ b 1 / 3 put a get ( x y ) then stop + a 0 / 3 put 9 get ( x y ) then stop"
     " + a 1 / 2 put -1 get ( x ) then stop ]",
 ]
@@ -98,7 +99,8 @@ class Meet(TermCase):
         plain = Plain(read(
             "channel a 2 at 0", "channel b 1 at 0",
             "define f ( x y ) [ a 0 / 2 put x get ( x ) then new z 1 [ b 0 / 1 put x get ( ) then stop"
-            " + b 0 / 1 put y get ( ) then stop + b 0 / 1 put a get ( ) then stop + b 0 / 1 put z get ( ) then stop ] ]",
+            " + b 0 / 1 put y get ( ) then stop + b 0 / 1 put a get ( ) then stop + b 0 / 1 put z get ( ) then"
+            " stop ] ]",
             "start new a 2 f ( 5 a )", "start [ a 1 / 2 put 6 get ( b ) then [ a 0 / 2 put b get ( c ) then stop ] ]",
         ))
         self.assertEqual(plain.menu_of(0), [((0, 0, 2), 0, 2, 5)])
@@ -173,8 +175,10 @@ class Impossible(TermCase):
         self.refused((0, 0, 3), ((2, 1), (1, 1), (0, 1)))
 
     def test_channels_that_do_not_exist(self):
-        for channel in ((2, 0, 2), (0, 2, 2), (0, 0, 3), (0, 0, 1), (-1, 0, 2), (0, -1, 2), (-2, -2, 2), (3, 0, 2),
-                        (0, LARGE, 2), (LARGE, 0, 2), (0, -LARGE, 2), (0, 0, 5), (0, 0, 0), (0, 0, -2), (0, 0, LARGE)):
+        for channel in (
+            (2, 0, 2), (0, 2, 2), (0, 0, 3), (0, 0, 1), (-1, 0, 2), (0, -1, 2), (-2, -2, 2), (3, 0, 2), (0, LARGE, 2),
+            (LARGE, 0, 2), (0, -LARGE, 2), (0, 0, 5), (0, 0, 0), (0, 0, -2), (0, 0, LARGE),
+        ):
             for chosen in ((), ((0, 0),), ((0, 0), (1, 0)), ((1, 1), (2, 0), (0, 1))):
                 self.refused(channel, chosen)
 
@@ -243,9 +247,11 @@ class Seatings(unittest.TestCase):
 
     def test_channels_that_do_not_exist(self):
         plain = Plain(read(*LINES))
-        for channel in ((2, 0, 2), (0, 2, 2), (0, 0, 3), (0, 0, 1), (0, 0, 4), (1, 0, 2), (-1, 0, 2), (-2, 0, 2),
-                        (0, -1, 2), (0, -2, 2), (3, 0, 2), (0, LARGE, 2), (LARGE, 0, 2), (-LARGE, -LARGE, 4),
-                        (0, 0, 5), (0, 0, 0), (0, 0, -1), (0, 0, LARGE), (0, 0, 60)):
+        for channel in (
+            (2, 0, 2), (0, 2, 2), (0, 0, 3), (0, 0, 1), (0, 0, 4), (1, 0, 2), (-1, 0, 2), (-2, 0, 2), (0, -1, 2),
+            (0, -2, 2), (3, 0, 2), (0, LARGE, 2), (LARGE, 0, 2), (-LARGE, -LARGE, 4), (0, 0, 5), (0, 0, 0), (0, 0, -1),
+            (0, 0, LARGE), (0, 0, 60),
+        ):
             self.assertIsNone(plain.first_on(channel))
             self.assertEqual(plain.bar_on(channel), (0,))
 

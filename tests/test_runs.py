@@ -53,6 +53,10 @@ class Sequences(TermCase):
                 if k != 0 or count == 0:
                     self.fails(NoMeeting, k, lambda: made[k])
 
+    def test_true_and_false_are_no_indexes(self):
+        for k in (True, False):
+            self.fails(NoMeeting, k, lambda: Run(ODD)[k])
+
     def test_the_list_that_was_passed_can_be_changed(self):
         passed = list(ODD)
         made = Run(passed)
@@ -136,6 +140,15 @@ class Operators(unittest.TestCase):
         for machine in range(9):
             self.assertEqual(len(made // machine), 1 if machine in (0, 4) else 0)
             self.assertEqual(len(made - machine), 0 if machine in (0, 4) else 1)
+
+    def test_other_things_beside_an_operator(self):
+        made = Run(ODD)
+        for other in ([], ODD, (), None, "0", (0, 0, 2)):
+            for action in (lambda: made + other, lambda: other + made, lambda: made // other, lambda: made - other):
+                self.assertRaises(TypeError, action)
+        for other in (made, True, False):
+            self.assertRaises(TypeError, lambda: made // other)
+            self.assertRaises(TypeError, lambda: made - other)
 
     def test_the_order_is_kept(self):
         meetings = numbered([0], [1], [0, 1], [2], [0], [1, 2])
