@@ -118,6 +118,34 @@ class Meet(TermCase):
         self.assertEqual(plain.menu_of(0), [((1, 0, 1), 0, 1, 1)])
         self.assertEqual(plain.menu_of(1), [((0, 0, 2), 0, 2, 2)])
 
+    def test_a_name_that_one_offer_hides_is_bound_as_before_behind_the_others(self):
+        def start():
+            return Plain(read(
+                "channel a 2 at 0", "channel b 1 at 0",
+                "define f ( x ) [ a 0 / 2 put 1 get ( b ) then [ a 0 / 2 put b get ( y ) then stop ]"
+                " + a 0 / 2 put 2 get ( x ) then [ a 0 / 2 put x get ( y ) then stop + a 0 / 2 put b get ( y )"
+                " then stop ]"
+                " + a 0 / 2 put 3 get ( y ) then [ a 0 / 2 put x get ( y ) then stop + a 0 / 2 put b get ( y )"
+                " then stop"
+                " + a 0 / 2 put y get ( y ) then stop ] ]",
+                "start new b 4 f ( 55 )", "start [ a 1 / 2 put 77 get ( y ) then stop ]",
+            ))
+        for place, expected in enumerate(([77], [77, (0, 1, 1)], [55, (0, 1, 1), 77])):
+            plain = start()
+            plain.meet((0, 0, 2), ((0, place), (1, 0)))
+            self.assertEqual([entry[3] for entry in plain.menu_of(0)], expected)
+
+    def test_what_is_hidden_before_a_meeting_stays_hidden_behind_it(self):
+        plain = Plain(read(
+            "channel a 1 at 0", "channel b 1 at 0", "define g ( ) [ a 0 / 1 put b get ( ) then stop ]",
+            "start new b 3 [ a 0 / 1 put 1 get ( ) then new c 2 [ a 0 / 1 put b get ( ) then g ( ) ] ]",
+        ))
+        plain.meet((0, 0, 1), ((0, 0),))
+        self.assertEqual(plain.menu_of(0), [((0, 0, 1), 0, 1, (0, 2, 3))])
+        # In the body of a definition the channel of the program is bound again.
+        plain.meet((0, 0, 1), ((0, 0),))
+        self.assertEqual(plain.menu_of(0), [((0, 0, 1), 0, 1, (0, 1, 1))])
+
     def test_the_offer_that_is_taken_counts(self):
         plain = Plain(read(
             "channel a 1 at 0", "start [ a 0 / 1 put 1 get ( ) then [ a 0 / 1 put 11 get ( ) then stop ]"
