@@ -88,13 +88,16 @@ def joined(logs):
     """The join of logs that fit together."""
     check_entries(logs)
     check_turns(logs)
+    check_takers(logs)
     taken = [0] * len(logs)
     meetings = []
     while ready := ready_meetings(logs, taken):
+        # Different ready meetings share no machine: so the channel or the first machine tells which one is less.
+        # Their values, which need not be all of one kind, are never compared by order.
         meetings.append(min(ready))
         for machine in machines_in(meetings[-1]):
             taken[machine] += 1
-    # What is left depends on itself, or wants the turn behind a log that another meeting has taken.
+    # What is left depends on itself.
     if any([taken[machine] < len(logs[machine]) for machine in range(len(logs))]):
         raise NoJoin()
     return Run(meetings)
@@ -117,6 +120,17 @@ def check_turns(logs):
             channel, parts = meeting
             for machine, turn, place, value in parts:
                 if not is_index(machine, len(logs)) or not log_fits(logs[machine], turn, meeting):
+                    raise NoJoin()
+
+
+def check_takers(logs):
+    """Checks that different meetings never contain the same machine with the same turn."""
+    takers = {}
+    for log in logs:
+        for meeting in log:
+            channel, parts = meeting
+            for machine, turn, place, value in parts:
+                if takers.setdefault((machine, turn), meeting) != meeting:
                     raise NoJoin()
 
 

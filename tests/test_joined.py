@@ -1,6 +1,7 @@
 """Logs that fit together, and their join (point 22)."""
 
 import copy
+import itertools
 import random
 import unittest
 
@@ -10,6 +11,8 @@ from fullseats.runs import Run, joined
 from helpers import LARGE, SAMPLES, picked_programs, picked_run
 
 A = (0, 0, 2)
+# Values of both kinds, which cannot be compared by order.
+VALUES = (5, (0, 0, 2), -3, (1, 0, 2), 0, (0, 0, 1))
 
 
 def meeting(*turns, channel=A):
@@ -41,6 +44,80 @@ def join_by_steps(logs):
         chosen.append(least)
         left.remove(least)
     return chosen
+
+
+def all_turns(logs):
+    """All machines and turns of the parts in the logs, each with its meeting."""
+    return [((part[0], part[1]), one) for log in logs for one in log for part in one[1]]
+
+
+def has_a_ring(logs):
+    """Whether a meeting depends on itself, where a later turn of a machine depends on the earlier ones."""
+    found = all_turns(logs)
+    left = [one for log in logs for one in log]
+    while True:
+        first = [
+            one for one in left
+            if not any(other in left and machine == part[0] and turn < part[1]
+                       for part in one[1] for (machine, turn), other in found)
+        ]
+        if not first:
+            return left != []
+        left = [one for one in left if one not in first]
+
+
+def fit_together(logs):
+    """Whether logs fit together, by the words of point 22."""
+    for machine, log in enumerate(logs):
+        for at, (channel, parts) in enumerate(log):
+            if len({part[0] for part in parts}) < len(parts) or (machine, at) not in [part[:2] for part in parts]:
+                return False
+    for (machine, turn), one in all_turns(logs):
+        if not 0 <= machine < len(logs) or not 0 <= turn <= len(logs[machine]):
+            return False
+        if turn < len(logs[machine]) and logs[machine][turn] != one:
+            return False
+    for (at, one), (where, other) in itertools.combinations(all_turns(logs), 2):
+        if at == where and one != other:
+            return False
+    return not has_a_ring(logs)
+
+
+def picked_logs(numbers):
+    """Logs of two to four machines that fit together, with values of both kinds."""
+    machines = numbers.randint(2, 4)
+    turns = [0] * machines
+    meetings = []
+    for count in range(numbers.randint(1, 4)):
+        takers = numbers.sample(range(machines), numbers.randint(1, machines))
+        parts = tuple((machine, turns[machine], numbers.randint(0, 1), numbers.choice(VALUES)) for machine in takers)
+        meetings.append(((0, numbers.randint(0, 1), len(parts)), parts))
+        for machine in takers:
+            turns[machine] += 1
+    logs = logs_of(meetings, machines)
+    for log in logs:
+        if log and numbers.randint(0, 1):
+            log.pop()
+    return logs
+
+
+def spoil(numbers, logs):
+    """Changes something in one of the logs."""
+    log = numbers.choice(logs)
+    what = numbers.randint(0, 3)
+    if what == 0 and log:
+        log.pop()
+    elif what == 1:
+        log.append(numbers.choice([one for other in logs for one in other] + [meeting((0, len(log)))]))
+    elif log:
+        at = numbers.randrange(len(log))
+        channel, parts = log[at]
+        seat = numbers.randrange(len(parts))
+        machine, turn, place, value = parts[seat]
+        changed = (machine, turn + numbers.randint(-1, 1), place, value)
+        if what == 3:
+            changed = (machine, turn, place, numbers.choice(VALUES))
+        log[at] = (channel, parts[:seat] + (changed,) + parts[seat + 1:])
 
 
 class JoinCase(unittest.TestCase):
@@ -108,6 +185,17 @@ class Joins(JoinCase):
         other = (A, ((2, 0, 0, (0, 0, 2)), (3, 0, 0, 5)))
         third = (A, ((0, 1, 0, (0, 0, 2)), (2, 1, 0, -5)))
         self.fits([one, other, third], [one, third], [one], [other, third], [other])
+
+    def test_values_of_both_kinds_on_one_channel(self):
+        # All meetings are ready at once; what differs first is the machine, and then the value.
+        for one, other, third in itertools.product(VALUES, repeat=3):
+            ready = [(A, ((machine, 0, 0, value),)) for machine, value in enumerate((one, other, third))]
+            self.fits(ready, *[[made] for made in ready])
+
+    def test_one_meeting_in_several_logs_is_compared_with_itself(self):
+        for values in itertools.permutations(VALUES, 2):
+            both = (A, ((1, 0, 0, values[0]), (0, 0, 0, values[1])))
+            self.fits([both], [both], [both])
 
     def test_the_logs_of_runs(self):
         numbers = random.Random(22)
@@ -204,6 +292,57 @@ class Conditions(JoinCase):
         self.refused([meeting((0, 0), (2, 0))], [meeting((1, 0), (2, 0))], [])
         self.refused([meeting((0, 0), (2, 0))], [meeting((1, 0), (2, 0), channel=(0, 1, 2))], [])
         self.refused([meeting((0, 0), (2, 0)), meeting((0, 1), (2, 0))], [], [])
+
+    def test_different_meetings_whose_values_are_not_of_one_kind(self):
+        # Up to the value of machine 2 both meetings are the same.
+        for one, other in itertools.product(VALUES, repeat=2):
+            first, second = (A, ((2, 0, 0, one), (0, 0, 0, 1))), (A, ((2, 0, 0, other), (1, 0, 0, 1)))
+            self.refused([first], [second], [])
+            self.refused([second], [first], [])
+            self.fits([first], [first], [], [])
+            self.fits([second], [], [second], [second])
+
+    def test_the_value_at_another_seat_is_not_of_one_kind(self):
+        for seat in range(4):
+            for one, other in itertools.permutations(VALUES, 2):
+                first = [(machine, 0, 0, 1) for machine in (2, 3, 4, 5)]
+                second = list(first)
+                first[seat], second[seat] = (2 + seat, 0, 0, one), (2 + seat, 0, 0, other)
+                first = ((0, 0, 5), tuple(first) + ((0, 0, 0, 1),))
+                second = ((0, 0, 5), tuple(second) + ((1, 0, 0, 1),))
+                self.refused([first], [second], [], [], [], [])
+                self.refused([second], [first], [], [], [], [])
+
+    def test_only_the_value_differs(self):
+        for one, other in itertools.permutations(VALUES, 2):
+            first, second = (A, ((0, 0, 0, one), (1, 0, 0, 1))), (A, ((0, 0, 0, other), (1, 0, 0, 1)))
+            self.refused([first], [second])
+            # A third machine misses the meeting of which the others have different records.
+            first, second = (A, ((2, 0, 0, one),) + first[1]), (A, ((2, 0, 0, other),) + first[1])
+            self.refused([first], [second], [])
+
+    def test_different_meetings_with_the_same_end_behind_many_that_fit(self):
+        before = [(A, ((0, turn, 0, turn), (1, turn, 0, A), (2, turn, 0, -turn))) for turn in range(50)]
+        one, other = (A, ((2, 50, 0, 5), (0, 50, 0, 1))), (A, ((2, 50, 0, A), (1, 50, 0, 1)))
+        self.refused(before + [one], before + [other], before)
+        self.fits(before + [one], before + [one], before, before)
+        # More meetings of the machines behind these do not matter.
+        self.refused(before + [one, meeting((0, 51))], before + [other, meeting((1, 51))], before)
+
+    def test_logs_that_were_changed(self):
+        numbers = random.Random(13)
+        answers = {True: 0, False: 0}
+        for count in range(4000):
+            logs = picked_logs(numbers)
+            self.assertTrue(fit_together(logs))
+            for changes in range(numbers.randint(0, 3)):
+                spoil(numbers, logs)
+            answers[fit_together(logs)] += 1
+            if fit_together(logs):
+                self.fits(join_by_steps(logs), *logs)
+            else:
+                self.refused(*logs)
+        self.assertGreater(min(answers.values()), 1000)
 
     def test_a_ring_of_two(self):
         one, other = meeting((0, 0), (1, 1)), meeting((0, 1), (1, 0))
